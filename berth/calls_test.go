@@ -1,0 +1,186 @@
+package berth
+
+import (
+	"fmt"
+	"math"
+	"reflect"
+	"slices"
+	"strings"
+	"testing"
+
+	"berth/api"
+)
+
+// filled is a Berth with all the nodes and pods that may be there, some of the pods held.
+func filled(t *testing.T) *Berth {
+	b := made(t, 5)
+	for i := range api.MaxNodes {
+		b.PutNode(api.Node{Name: fmt.Sprint("n", i), Room: api.Amounts{i, i, i}, Labels: labels("zone", fmt.Sprint("z", i%3)), Taints: labels("t", "v")})
+	}
+	b.Tick(10)
+	for i := range api.MaxPods {
+		p := api.Pod{Name: fmt.Sprint("p", i), Need: api.Amounts{i, 0, 1}, Port: i, Labels: labels("app", "web"), Apart: labels("app", "db")}
+		if i%4 == 0 {
+			hold(b, p, fmt.Sprint("n", i%7))
+		} else {
+			b.Bind(p, fmt.Sprint("n", i%5))
+		}
+	}
+	return b
+}
+
+func TestP1AnErrorChangesNothing(t *testing.T) {
+	b := filled(t)
+	for what, c := range map[string]struct {
+		call func() api.Errno
+		want api.Errno
+	}{
+		"PutNode of no node":        {func() api.Errno { return b.PutNode(api.Node{Name: "n1", Labels: keys(9)}) }, api.ErrNode},
+		"PutNode of a wrong name":   {func() api.Errno { return b.PutNode(api.Node{Name: "N1"}) }, api.ErrNode},
+		"PutNode of one more":       {func() api.Errno { return b.PutNode(api.Node{Name: "more"}) }, api.ErrFull},
+		"DropNode of none":          {func() api.Errno { return b.DropNode("more") }, api.ErrNone},
+		"DropNode of a pod":         {func() api.Errno { return b.DropNode("p1") }, api.ErrNone},
+		"Bind of no pod":            {func() api.Errno { return b.Bind(api.Pod{Name: "p1", Port: 65536}, "n1") }, api.ErrPod},
+		"Bind to no node":           {func() api.Errno { return b.Bind(api.Pod{Name: "more"}, "more") }, api.ErrNone},
+		"Bind of one that is bound": {func() api.Errno { return b.Bind(api.Pod{Name: "p1"}, "n9") }, api.ErrTwice},
+		"Bind of one that is held":  {func() api.Errno { return b.Bind(api.Pod{Name: "p4"}, "n9") }, api.ErrTwice},
+		"Bind of one more":          {func() api.Errno { return b.Bind(api.Pod{Name: "more"}, "n1") }, api.ErrFull},
+		"Confirm of none":           {func() api.Errno { return b.Confirm("more") }, api.ErrNone},
+		"Confirm of one bound":      {func() api.Errno { return b.Confirm("p1") }, api.ErrState},
+		"Drop of none":              {func() api.Errno { return b.Drop("n1") }, api.ErrNone},
+		"Tick back":                 {func() api.Errno { return b.Tick(-6) }, api.ErrTime},
+		"Tick too far":              {func() api.Errno { return b.Tick(api.MaxTick + 1) }, api.ErrTime},
+	} {
+		want(t, what, c.call(), c.want)
+		wantSame(t, what, b, filled(t))
+	}
+}
+
+func TestP1NoCallPanics(t *testing.T) {
+	numbers := []int{0, 1, -1, 5, 1000, 65535, 1 << 40, 1<<40 + 1, math.MaxInt, math.MinInt, math.MaxInt32}
+	texts := []string{"", "a", "A", "\xff\x00", strings.Repeat("a", 20), strings.Repeat("a", 1<<20), "zone", "é"}
+	manyLabels := [][]api.Label{nil, {}, {{}}, make([]api.Label, 5000), labels("a", "b"), labels("a", "b", "a", "b"), labels("zone", "x")}
+	b := made(t, 1)
+	for _, n := range numbers {
+		New(api.Config{Hold: n})
+		for _, s := range texts {
+			for _, l := range manyLabels {
+				p := api.Pod{Name: s, Need: api.Amounts{n, n, n}, Port: n, Labels: l, Select: l, Bears: l, Near: l, Apart: l}
+				m := api.Node{Name: s, Room: api.Amounts{n, n, n}, Labels: l, Taints: l}
+				Check(p)
+				CheckNode(m)
+				Fits(l, manyLabels[n&3])
+				b.PutNode(m)
+				b.Bind(p, s)
+				b.Bind(p, "a")
+				b.Confirm(s)
+				b.Tick(n)
+				b.State()
+				b.Drop(s)
+				b.DropNode(s)
+			}
+		}
+	}
+}
+
+func TestP1TheSameCallsTheSameAnswers(t *testing.T) {
+	first := filled(t).State()
+	for range 20 {
+		if s := filled(t).State(); !reflect.DeepEqual(s, first) {
+			t.Fatalf("%+v, and then %+v", first, s)
+		}
+	}
+}
+
+// roomy is a list with spare room, and the memory that lies behind both.
+func roomy(l []api.Label) (list, all []api.Label) {
+	all = append(slices.Clone(l), labels("spare", "room", "more", "room")...)
+	return all[:len(l)], all
+}
+
+func TestP1ListsThatAreHandedInStayAsTheyAre(t *testing.T) {
+	b := made(t, 5)
+	for _, l := range [][]api.Label{{}, labels("z", "1", "b", "2", "a", "3"), labels("z", "1", "a", "2", "z", "3"), keys(8), keys(9)} {
+		list, all := roomy(l)
+		before := slices.Clone(all)
+		p := api.Pod{Name: "p", Labels: list, Select: list, Bears: list, Near: list, Apart: list}
+		n := api.Node{Name: "n", Labels: list, Taints: list}
+		Check(p)
+		CheckNode(n)
+		Fits(list, list)
+		b.PutNode(n)
+		b.Bind(p, "n")
+		b.Drop("p")
+		if !slices.Equal(all, before) {
+			t.Errorf("%v became %v", before, all)
+		}
+	}
+}
+
+func TestP1ListsThatAreHandedInAreNotKept(t *testing.T) {
+	b, other := made(t, 5), made(t, 5)
+	for i, at := range []*Berth{b, other} {
+		var mine [][]api.Label
+		list := func() []api.Label {
+			l, all := roomy(labels("a", "1", "zone", "2"))
+			mine = append(mine, all)
+			return l
+		}
+		want(t, "PutNode", at.PutNode(api.Node{Name: "n", Labels: list(), Taints: list()}), api.OK)
+		want(t, "Bind", at.Bind(api.Pod{Name: "p", Labels: list(), Select: list(), Bears: list(), Near: list(), Apart: list()}, "n"), api.OK)
+		hold(at, api.Pod{Name: "q", Labels: list(), Apart: list()}, "n")
+		for _, l := range mine {
+			for j := range l {
+				if i == 0 {
+					l[j] = api.Label{Key: "written", Value: "later"}
+				}
+			}
+		}
+	}
+	wantSame(t, "after the caller has written into the lists", b, other)
+	if l := b.nodes["n"].labels; !slices.Equal(l, labels("a", "1", "zone", "2")) {
+		t.Errorf("the node's labels: %v", l)
+	}
+	if l := b.pods["p"].apart; !slices.Equal(l, labels("a", "1", "zone", "2")) {
+		t.Errorf("the pod's Apart: %v", l)
+	}
+}
+
+func TestP1NilIsAsGoodAsEmpty(t *testing.T) {
+	b, other := made(t, 5), made(t, 5)
+	e := []api.Label{}
+	want(t, "PutNode", b.PutNode(api.Node{Name: "n"}), api.OK)
+	want(t, "PutNode", other.PutNode(api.Node{Name: "n", Labels: e, Taints: e}), api.OK)
+	want(t, "Bind", b.Bind(api.Pod{Name: "p"}, "n"), api.OK)
+	want(t, "Bind", other.Bind(api.Pod{Name: "p", Labels: e, Select: e, Bears: e, Near: e, Apart: e}, "n"), api.OK)
+	wantSame(t, "nil and empty lists", b, other)
+}
+
+func TestP1ListsThatComeOutAreNew(t *testing.T) {
+	b := filled(t)
+	for range 2 {
+		s := b.State()
+		nodes, pods := s.Nodes[:cap(s.Nodes)], s.Pods[:cap(s.Pods)]
+		for i := range nodes {
+			nodes[i] = api.Use{Name: "written", Pods: -1}
+		}
+		for i := range pods {
+			pods[i] = api.Lies{Name: "written", Since: -1}
+		}
+		wantSame(t, "after the caller has written into a state", b, filled(t))
+		wantState(t, b, filled(t).State())
+	}
+}
+
+func TestP1AStateStaysAsItWas(t *testing.T) {
+	b := filled(t)
+	s := b.State()
+	b.DropNode("n1")
+	b.Drop("p2")
+	b.Tick(100)
+	b.PutNode(api.Node{Name: "a"})
+	b.Bind(api.Pod{Name: "a"}, "a")
+	if !reflect.DeepEqual(s, filled(t).State()) {
+		t.Errorf("a state that was told changed with the Berth")
+	}
+}
