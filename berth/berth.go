@@ -5,10 +5,12 @@ import "berth/api"
 
 // Berth knows nodes and pods.
 type Berth struct {
-	hold  int
-	time  int
-	nodes map[string]node
-	pods  map[string]*pod
+	hold            int
+	remember, whole bool
+	time            int
+	nodes           map[string]node
+	pods            map[string]*pod
+	memory          memory
 }
 
 // New makes a Berth (P3).
@@ -16,11 +18,15 @@ func New(c api.Config) (*Berth, api.Errno) {
 	if c.Hold < 1 || c.Hold > api.MaxHold {
 		return nil, api.ErrConfig
 	}
-	return &Berth{hold: c.Hold, nodes: map[string]node{}, pods: map[string]*pod{}}, api.OK
+	return &Berth{
+		hold:     c.Hold,
+		remember: c.Remember,
+		whole:    c.Whole,
+		nodes:    map[string]node{},
+		pods:     map[string]*pod{},
+		memory:   newMemory(),
+	}, api.OK
 }
-
-// Schedule finds a node for a pod (P6).
-func (b *Berth) Schedule(p api.Pod) api.Reply { return api.Reply{} }
 
 // Queue lets a pod wait (P7).
 func (b *Berth) Queue(p api.Pod) api.Errno { return api.OK }

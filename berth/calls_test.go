@@ -11,14 +11,18 @@ import (
 	"berth/api"
 )
 
-// filled is a Berth with all the nodes and pods that may be there, some of the pods held.
+// filled is a Berth with all the nodes and pods that may be there, some of the pods held; it remembers what it was asked for, and has changed since.
 func filled(t *testing.T) *Berth {
-	b := made(t, 5)
+	b := madeBy(t, api.Config{Hold: 5, Remember: true})
 	for i := range api.MaxNodes {
 		b.PutNode(api.Node{Name: fmt.Sprint("n", i), Room: api.Amounts{i, i, i}, Labels: labels("zone", fmt.Sprint("z", i%3)), Taints: labels("t", "v")})
 	}
 	b.Tick(10)
+	b.Schedule(api.Pod{Name: "more", Select: labels("zone", "z3"), Near: labels("app", "web")})
 	for i := range api.MaxPods {
+		if i == api.MaxPods-20 {
+			b.Schedule(api.Pod{Name: "more", Bears: labels("t", "v"), Near: labels("app", "web"), Labels: labels("app", "db")})
+		}
 		p := api.Pod{Name: fmt.Sprint("p", i), Need: api.Amounts{i, 0, 1}, Port: i, Labels: labels("app", "web"), Apart: labels("app", "db")}
 		if i%4 == 0 {
 			hold(b, p, fmt.Sprint("n", i%7))
@@ -27,6 +31,17 @@ func filled(t *testing.T) *Berth {
 		}
 	}
 	return b
+}
+
+// refused is a Schedule whose reply tells nothing but an error.
+func refused(b *Berth, p api.Pod) func() api.Errno {
+	return func() api.Errno {
+		r := b.Schedule(p)
+		if !sameReply(r, api.Reply{Err: r.Err}) {
+			return -1
+		}
+		return r.Err
+	}
 }
 
 func TestP1AnErrorChangesNothing(t *testing.T) {
@@ -45,6 +60,10 @@ func TestP1AnErrorChangesNothing(t *testing.T) {
 		"Bind of one that is bound": {func() api.Errno { return b.Bind(api.Pod{Name: "p1"}, "n9") }, api.ErrTwice},
 		"Bind of one that is held":  {func() api.Errno { return b.Bind(api.Pod{Name: "p4"}, "n9") }, api.ErrTwice},
 		"Bind of one more":          {func() api.Errno { return b.Bind(api.Pod{Name: "more"}, "n1") }, api.ErrFull},
+		"Schedule of no pod":        {refused(b, api.Pod{Name: "p1", Near: keys(9)}), api.ErrPod},
+		"Schedule of one bound":     {refused(b, api.Pod{Name: "p1"}), api.ErrTwice},
+		"Schedule of one held":      {refused(b, api.Pod{Name: "p4"}), api.ErrTwice},
+		"Schedule of one more":      {refused(b, api.Pod{Name: "more"}), api.ErrFull},
 		"Confirm of none":           {func() api.Errno { return b.Confirm("more") }, api.ErrNone},
 		"Confirm of one bound":      {func() api.Errno { return b.Confirm("p1") }, api.ErrState},
 		"Drop of none":              {func() api.Errno { return b.Drop("n1") }, api.ErrNone},
@@ -60,7 +79,7 @@ func TestP1NoCallPanics(t *testing.T) {
 	numbers := []int{0, 1, -1, 5, 1000, 65535, 1 << 40, 1<<40 + 1, math.MaxInt, math.MinInt, math.MaxInt32}
 	texts := []string{"", "a", "A", "\xff\x00", strings.Repeat("a", 20), strings.Repeat("a", 1<<20), "zone", "é"}
 	manyLabels := [][]api.Label{nil, {}, {{}}, make([]api.Label, 5000), labels("a", "b"), labels("a", "b", "a", "b"), labels("zone", "x")}
-	b := made(t, 1)
+	b := madeBy(t, api.Config{Hold: 1, Remember: true})
 	for _, n := range numbers {
 		New(api.Config{Hold: n})
 		for _, s := range texts {
@@ -73,7 +92,10 @@ func TestP1NoCallPanics(t *testing.T) {
 				b.PutNode(m)
 				b.Bind(p, s)
 				b.Bind(p, "a")
+				b.Schedule(p)
 				b.Confirm(s)
+				b.Drop(s)
+				b.Schedule(p)
 				b.Tick(n)
 				b.State()
 				b.Drop(s)
@@ -111,6 +133,10 @@ func TestP1ListsThatAreHandedInStayAsTheyAre(t *testing.T) {
 		b.PutNode(n)
 		b.Bind(p, "n")
 		b.Drop("p")
+		b.Schedule(p)
+		b.Drop("p")
+		b.Schedule(api.Pod{Name: "q", Labels: list, Select: list, Bears: list})
+		b.Drop("q")
 		if !slices.Equal(all, before) {
 			t.Errorf("%v became %v", before, all)
 		}
@@ -118,7 +144,8 @@ func TestP1ListsThatAreHandedInStayAsTheyAre(t *testing.T) {
 }
 
 func TestP1ListsThatAreHandedInAreNotKept(t *testing.T) {
-	b, other := made(t, 5), made(t, 5)
+	remember := api.Config{Hold: 5, Remember: true}
+	b, other := madeBy(t, remember), madeBy(t, remember)
 	for i, at := range []*Berth{b, other} {
 		var mine [][]api.Label
 		list := func() []api.Label {
@@ -128,7 +155,9 @@ func TestP1ListsThatAreHandedInAreNotKept(t *testing.T) {
 		}
 		want(t, "PutNode", at.PutNode(api.Node{Name: "n", Labels: list(), Taints: list()}), api.OK)
 		want(t, "Bind", at.Bind(api.Pod{Name: "p", Labels: list(), Select: list(), Bears: list(), Near: list(), Apart: list()}, "n"), api.OK)
-		hold(at, api.Pod{Name: "q", Labels: list(), Apart: list()}, "n")
+		wantReply(t, at, api.Pod{Name: "q", Labels: list(), Select: list(), Bears: list(), Near: list(), Apart: labels("a", "2")}, unfit(1, "n6"))
+		at.Drop("p")
+		wantReply(t, at, api.Pod{Name: "q", Labels: list(), Select: list(), Bears: list(), Apart: list()}, api.Reply{Node: "n", Fresh: 1})
 		for _, l := range mine {
 			for j := range l {
 				if i == 0 {
@@ -141,8 +170,8 @@ func TestP1ListsThatAreHandedInAreNotKept(t *testing.T) {
 	if l := b.nodes["n"].labels; !slices.Equal(l, labels("a", "1", "zone", "2")) {
 		t.Errorf("the node's labels: %v", l)
 	}
-	if l := b.pods["p"].apart; !slices.Equal(l, labels("a", "1", "zone", "2")) {
-		t.Errorf("the pod's Apart: %v", l)
+	if q, there := b.pods["q"]; !there || !slices.Equal(q.apart, labels("a", "1", "zone", "2")) {
+		t.Errorf("the pod: %+v", q)
 	}
 }
 
@@ -153,6 +182,8 @@ func TestP1NilIsAsGoodAsEmpty(t *testing.T) {
 	want(t, "PutNode", other.PutNode(api.Node{Name: "n", Labels: e, Taints: e}), api.OK)
 	want(t, "Bind", b.Bind(api.Pod{Name: "p"}, "n"), api.OK)
 	want(t, "Bind", other.Bind(api.Pod{Name: "p", Labels: e, Select: e, Bears: e, Near: e, Apart: e}, "n"), api.OK)
+	wantReply(t, b, api.Pod{Name: "q"}, api.Reply{Node: "n", Fresh: 1})
+	wantReply(t, other, api.Pod{Name: "q", Labels: e, Select: e, Bears: e, Near: e, Apart: e}, api.Reply{Node: "n", Fresh: 1})
 	wantSame(t, "nil and empty lists", b, other)
 }
 

@@ -28,11 +28,21 @@ func keys(n int) []api.Label {
 
 func made(t *testing.T, hold int) *Berth {
 	t.Helper()
-	b, e := New(api.Config{Hold: hold})
+	return madeBy(t, api.Config{Hold: hold})
+}
+
+func madeBy(t *testing.T, c api.Config) *Berth {
+	t.Helper()
+	b, e := New(c)
 	if b == nil || e != api.OK {
-		t.Fatalf("New with Hold %d: %v, %v", hold, b, e)
+		t.Fatalf("New(%+v): %v, %v", c, b, e)
 	}
 	return b
+}
+
+// settings are the four of c.Remember and c.Whole, on which no answer hangs.
+func settings(hold int) []api.Config {
+	return []api.Config{{Hold: hold}, {Hold: hold, Remember: true}, {Hold: hold, Whole: true}, {Hold: hold, Remember: true, Whole: true}}
 }
 
 func want(t *testing.T, what string, got, want api.Errno) {
@@ -65,4 +75,25 @@ func wantSame(t *testing.T, what string, got, want *Berth) {
 // hold lays a pod as one that is scheduled now.
 func hold(b *Berth, p api.Pod, node string) {
 	b.lay(p, node, held, b.time)
+}
+
+// unfit is a reply that no node takes a pod, with reasons written as a1, b6.
+func unfit(fresh int, told ...string) api.Reply {
+	r := api.Reply{Err: api.ErrFit, Fresh: fresh}
+	for _, s := range told {
+		r.Reasons = append(r.Reasons, api.Reason{Node: s[:len(s)-1], Why: int(s[len(s)-1] - '0')})
+	}
+	return r
+}
+
+// sameReply holds two replies against each other; nil is as good as an empty list.
+func sameReply(a, b api.Reply) bool {
+	return a.Err == b.Err && a.Node == b.Node && a.Score == b.Score && a.Fresh == b.Fresh && slices.Equal(a.Reasons, b.Reasons)
+}
+
+func wantReply(t *testing.T, b *Berth, p api.Pod, want api.Reply) {
+	t.Helper()
+	if got := b.Schedule(p); !sameReply(got, want) {
+		t.Errorf("Schedule of %+v:\n%+v\nwant:\n%+v", p, got, want)
+	}
 }

@@ -10,37 +10,53 @@ import (
 	"berth/api"
 )
 
-// plain is the document's words on P4, P5 and P8 over two plain lists, held against the Berth call by call.
+// plain is the document's words on P4 to P6 and P8 over two plain lists, with nothing remembered; Berths are held against it call by call.
 type plain struct {
 	hold, time int
-	nodes      []string
+	puts       int
+	nodes      []plainNode
 	pods       []plainPod
 }
 
+type plainNode struct {
+	api.Node
+	put   int // which of all the puts this one was
+	fresh bool
+}
+
 type plainPod struct {
+	api.Pod
 	lies api.Lies
-	need api.Amounts
+	put  int // the put of its node under which it was scheduled; 0, if it was bound
+}
+
+func (m *plain) node(name string) int {
+	return slices.IndexFunc(m.nodes, func(n plainNode) bool { return n.Name == name })
 }
 
 func (m *plain) pod(name string) int {
-	return slices.IndexFunc(m.pods, func(p plainPod) bool { return p.lies.Name == name })
+	return slices.IndexFunc(m.pods, func(p plainPod) bool { return p.Name == name })
 }
 
 func (m *plain) putNode(n api.Node) api.Errno {
+	i := m.node(n.Name)
 	switch {
 	case CheckNode(n) != api.OK:
 		return api.ErrNode
-	case slices.Contains(m.nodes, n.Name):
-		return api.OK
-	case len(m.nodes) == 32:
+	case i < 0 && len(m.nodes) == 32:
 		return api.ErrFull
 	}
-	m.nodes = append(m.nodes, n.Name)
+	if i >= 0 {
+		m.nodes = slices.Delete(m.nodes, i, i+1)
+	}
+	m.puts++
+	m.nodes = append(m.nodes, plainNode{n, m.puts, true})
+	slices.SortFunc(m.nodes, func(a, b plainNode) int { return strings.Compare(a.Name, b.Name) })
 	return api.OK
 }
 
 func (m *plain) dropNode(name string) api.Errno {
-	i := slices.Index(m.nodes, name)
+	i := m.node(name)
 	if i < 0 {
 		return api.ErrNone
 	}
@@ -53,15 +69,129 @@ func (m *plain) bind(p api.Pod, node string) api.Errno {
 	switch {
 	case Check(p) != api.OK:
 		return api.ErrPod
-	case !slices.Contains(m.nodes, node):
+	case m.node(node) < 0:
 		return api.ErrNone
 	case m.pod(p.Name) >= 0:
 		return api.ErrTwice
 	case len(m.pods) == 128:
 		return api.ErrFull
 	}
-	m.pods = append(m.pods, plainPod{api.Lies{Name: p.Name, Node: node, Bound: true}, p.Need})
+	m.nodes[m.node(node)].fresh = true
+	m.pods = append(m.pods, plainPod{p, api.Lies{Name: p.Name, Node: node, Bound: true}, 0})
 	return api.OK
+}
+
+func (m *plain) schedule(p api.Pod) api.Reply {
+	switch {
+	case Check(p) != api.OK:
+		return api.Reply{Err: api.ErrPod}
+	case m.pod(p.Name) >= 0:
+		return api.Reply{Err: api.ErrTwice}
+	case len(m.pods) == 128:
+		return api.Reply{Err: api.ErrFull}
+	}
+	r := api.Reply{Err: api.ErrFit, Score: -1}
+	fresh, at := 0, -1
+	for i := range m.nodes {
+		if m.nodes[i].fresh {
+			fresh++
+		}
+		m.nodes[i].fresh = false
+		if why := m.why(m.nodes[i].Node, p); why != 0 {
+			r.Reasons = append(r.Reasons, api.Reason{Node: m.nodes[i].Name, Why: why})
+		} else if s := m.score(m.nodes[i].Node, p); s > r.Score {
+			at, r.Score = i, s
+		}
+	}
+	if at < 0 {
+		return api.Reply{Err: api.ErrFit, Reasons: r.Reasons, Fresh: fresh}
+	}
+	n := &m.nodes[at]
+	n.fresh = true
+	m.pods = append(m.pods, plainPod{p, api.Lies{Name: p.Name, Node: n.Name, Since: m.time}, n.put})
+	return api.Reply{Node: n.Name, Score: r.Score, Fresh: fresh}
+}
+
+func (m *plain) on(node string) []*plainPod {
+	var out []*plainPod
+	for i := range m.pods {
+		if m.pods[i].lies.Node == node {
+			out = append(out, &m.pods[i])
+		}
+	}
+	return out
+}
+
+func (m *plain) used(node string, amount int) int {
+	used := 0
+	for _, p := range m.on(node) {
+		used += p.Need[amount]
+	}
+	return used
+}
+
+func (m *plain) score(n api.Node, p api.Pod) int {
+	score := 0
+	for i := range 3 {
+		if left := n.Room[i] - m.used(n.Name, i) - p.Need[i]; n.Room[i] > 0 && left >= 0 {
+			score += left * 100 / n.Room[i]
+		}
+	}
+	return score
+}
+
+func (m *plain) why(n api.Node, p api.Pod) int {
+	near, apart := len(p.Near) > 0, false
+	for i := range 3 {
+		if p.Need[i] > 0 && p.Need[i] > n.Room[i]-m.used(n.Name, i) {
+			return 1
+		}
+	}
+	for _, q := range m.pods {
+		if q.lies.Node == n.Name && q.Port == p.Port && p.Port > 0 {
+			return 2
+		}
+		other := m.nodes[m.node(q.lies.Node)].Node
+		if !plainNeighbours(n, other) {
+			continue
+		}
+		near = near && !plainFits(p.Near, q.Labels)
+		apart = apart || len(p.Apart) > 0 && plainFits(p.Apart, q.Labels) || len(q.Apart) > 0 && plainFits(q.Apart, p.Labels)
+	}
+	switch {
+	case !plainFits(p.Select, n.Labels):
+		return 3
+	case !plainFits(n.Taints, p.Bears):
+		return 4
+	case near:
+		return 5
+	case apart:
+		return 6
+	}
+	return 0
+}
+
+func plainFits(l, among []api.Label) bool {
+	found := 0
+	for _, a := range l {
+		for _, b := range among {
+			if a.Key == b.Key && a.Value == b.Value {
+				found++
+			}
+		}
+	}
+	return found == len(l)
+}
+
+func plainNeighbours(n, m api.Node) bool {
+	for _, a := range n.Labels {
+		for _, b := range m.Labels {
+			if a.Key == "zone" && b.Key == "zone" && a.Value == b.Value {
+				return true
+			}
+		}
+	}
+	return n.Name == m.Name
 }
 
 func (m *plain) confirm(name string) api.Errno {
@@ -81,78 +211,189 @@ func (m *plain) drop(name string) api.Errno {
 	if i < 0 {
 		return api.ErrNone
 	}
+	m.nodes[m.node(m.pods[i].lies.Node)].fresh = true
 	m.pods = slices.Delete(m.pods, i, i+1)
 	return api.OK
 }
 
+// tick takes the ticks one by one, and drops what is held when its time has come (P9).
 func (m *plain) tick(n int) api.Errno {
 	if n < 0 || n > 100000 {
 		return api.ErrTime
 	}
-	m.time += n
-	m.pods = slices.DeleteFunc(m.pods, func(p plainPod) bool { return !p.lies.Bound && p.lies.Since+m.hold <= m.time })
+	for range min(n, 2000) {
+		m.time++
+		for _, p := range slices.Clone(m.pods) {
+			if !p.lies.Bound && p.lies.Since+m.hold == m.time {
+				m.drop(p.Name)
+			}
+		}
+	}
+	m.time += max(0, n-2000)
 	return api.OK
 }
 
 func (m *plain) state() api.State {
 	s := api.State{Time: m.time}
-	for _, name := range m.nodes {
-		u := api.Use{Name: name}
-		for _, p := range m.pods {
-			if p.lies.Node == name {
-				u.Pods++
-				u.Used = api.Amounts{u.Used[0] + p.need[0], u.Used[1] + p.need[1], u.Used[2] + p.need[2]}
-			}
-		}
-		s.Nodes = append(s.Nodes, u)
+	for _, n := range m.nodes {
+		used := api.Amounts{m.used(n.Name, 0), m.used(n.Name, 1), m.used(n.Name, 2)}
+		s.Nodes = append(s.Nodes, api.Use{Name: n.Name, Used: used, Pods: len(m.on(n.Name))})
 	}
 	for _, p := range m.pods {
 		s.Pods = append(s.Pods, p.lies)
 	}
-	slices.SortFunc(s.Nodes, func(a, b api.Use) int { return strings.Compare(a.Name, b.Name) })
 	slices.SortFunc(s.Pods, func(a, b api.Lies) int { return strings.Compare(a.Name, b.Name) })
 	return s
 }
 
-// TestCallsAgainstThePlainWords runs calls of all kinds (P4, P5, P8) in an order that is mixed but the same each time.
-func TestCallsAgainstThePlainWords(t *testing.T) {
-	for seed := range uint64(12) {
-		r := rand.New(rand.NewPCG(seed, 1))
-		length := 1 + r.IntN(12)
-		b, m := made(t, length), &plain{hold: length}
-		for i := range 1500 {
-			what, got, wanted := oneCall(r, b, m)
-			want(t, fmt.Sprint("seed ", seed, ", call ", i, ": ", what), got, wanted)
-			wantState(t, b, m.state())
-			if t.Failed() {
-				return
+// overfull names a node that P9 says there can't be: all of its pods scheduled since it was put, and more used than room of what they need, or a port twice.
+func (m *plain) overfull(s api.State) string {
+	for i, n := range m.nodes {
+		pods, ports := m.on(n.Name), map[int]int{}
+		if slices.ContainsFunc(pods, func(p *plainPod) bool { return p.put != n.put }) {
+			continue
+		}
+		for _, p := range pods {
+			for j := range 3 {
+				if p.Need[j] > 0 && s.Nodes[i].Used[j] > n.Room[j] {
+					return n.Name
+				}
+			}
+			ports[p.Port]++
+			if p.Port > 0 && ports[p.Port] > 1 {
+				return n.Name
 			}
 		}
 	}
+	return ""
 }
 
-func oneCall(r *rand.Rand, b *Berth, m *plain) (what string, got, wanted api.Errno) {
-	node, name := fmt.Sprint("n", r.IntN(36)), fmt.Sprint("p", r.IntN(150))
-	p := api.Pod{Name: name, Need: api.Amounts{r.IntN(9), r.IntN(9), r.IntN(3) * api.MaxAmount / 2}, Port: r.IntN(65560)}
-	switch k := r.IntN(60); {
-	case k < 6:
-		n := api.Node{Name: node, Labels: keys(r.IntN(10))}
-		return "PutNode " + node, b.PutNode(n), m.putNode(n)
-	case k < 7:
-		return "DropNode " + node, b.DropNode(node), m.dropNode(node)
-	case k < 10:
-		return "Drop " + name, b.Drop(name), m.drop(name)
-	case k < 20:
-		return "Confirm " + name, b.Confirm(name), m.confirm(name)
-	case k < 22:
-		n := []int{-1, 0, 0, 1, 1, 1, 1, 2, 100000, 100001}[r.IntN(10)]
-		return fmt.Sprint("Tick ", n), b.Tick(n), m.tick(n)
-	case k < 42:
-		if m.pod(name) < 0 && slices.Contains(m.nodes, node) && len(m.pods) < 128 && Check(p) == api.OK {
-			hold(b, p, node)
-			m.pods = append(m.pods, plainPod{api.Lies{Name: name, Node: node, Since: m.time}, p.Need})
+// mix draws calls from a few names, labels and amounts, so that they have to do with each other.
+type mix struct {
+	*rand.Rand
+	nodes, pods, most int
+}
+
+func (x mix) list(none int, choices ...string) []api.Label {
+	var out []api.Label
+	for i := 0; i < len(choices); i += 3 {
+		if k := x.IntN(2 + none); k < 2 {
+			out = append(out, api.Label{Key: choices[i], Value: choices[i+1+k]})
 		}
-		return "hold " + name, api.OK, api.OK
 	}
-	return "Bind " + name + " to " + node, b.Bind(p, node), m.bind(p, node)
+	return out
+}
+
+func (x mix) amounts() api.Amounts {
+	few := func() int { return x.IntN(2) * x.IntN(4*x.most) }
+	return api.Amounts{few(), few(), few()}
+}
+
+func (x mix) node() api.Node {
+	n := api.Node{Name: fmt.Sprint("n", x.IntN(x.nodes))}
+	for i := range n.Room {
+		n.Room[i] = max(0, x.IntN(24*x.most)-4*x.most)
+	}
+	n.Labels = append(x.list(1, "disk", "fast", "slow"), x.list(1, "zone", "x", "y")...)
+	n.Taints = x.list(9, "load", "heavy", "light", "zone", "x", "y")
+	if x.IntN(30) == 0 {
+		n.Labels = append(n.Labels, api.Label{Key: "disk"})
+	}
+	return n
+}
+
+func (x mix) pod() api.Pod {
+	p := api.Pod{Name: fmt.Sprint("p", x.IntN(x.pods)), Port: max(0, x.IntN(12)-8)}
+	if x.IntN(2) == 0 {
+		p.Need = x.amounts()
+	}
+	p.Labels = x.list(1, "app", "web", "db", "rank", "one", "two")
+	p.Select = x.list(6, "disk", "fast", "slow", "zone", "x", "y")
+	p.Bears = x.list(0, "load", "heavy", "light", "zone", "x", "y")
+	p.Near = x.list(8, "app", "web", "db", "rank", "one", "two")
+	p.Apart = x.list(12, "app", "web", "db", "rank", "one", "two")
+	if x.IntN(50) == 0 {
+		p.Port = 65536
+	}
+	return p
+}
+
+// call makes one call of each Berth and of the plain words: what came of it, as texts.
+func (x mix) call(all []*Berth, m *plain, kinds []api.Pod) (what string, got []string, want string) {
+	n, p, k, ticks := x.node(), x.pod(), x.IntN(100), x.IntN(4)
+	if x.IntN(3) > 0 {
+		kind := kinds[x.IntN(len(kinds))]
+		kind.Name = p.Name
+		p = kind
+	}
+	if x.IntN(40) == 0 {
+		ticks = []int{-1, 0, 100000, 100001}[ticks]
+	}
+	one := func(b *Berth) string {
+		switch {
+		case k < 12:
+			return fmt.Sprint(b.PutNode(n))
+		case k < 13:
+			return fmt.Sprint(b.DropNode(n.Name))
+		case k < 23:
+			return fmt.Sprint(b.Bind(p, n.Name))
+		case k < 33:
+			return fmt.Sprint(b.Drop(p.Name))
+		case k < 43:
+			return fmt.Sprint(b.Confirm(p.Name))
+		case k < 48:
+			return fmt.Sprint(b.Tick(ticks))
+		}
+		return fmt.Sprintf("%+v", b.Schedule(p))
+	}
+	for _, b := range all {
+		got = append(got, one(b))
+	}
+	switch {
+	case k < 12:
+		return fmt.Sprintf("PutNode %+v", n), got, fmt.Sprint(m.putNode(n))
+	case k < 13:
+		return "DropNode " + n.Name, got, fmt.Sprint(m.dropNode(n.Name))
+	case k < 23:
+		return fmt.Sprintf("Bind %+v to %s", p, n.Name), got, fmt.Sprint(m.bind(p, n.Name))
+	case k < 33:
+		return "Drop " + p.Name, got, fmt.Sprint(m.drop(p.Name))
+	case k < 43:
+		return "Confirm " + p.Name, got, fmt.Sprint(m.confirm(p.Name))
+	case k < 48:
+		return fmt.Sprint("Tick ", ticks), got, fmt.Sprint(m.tick(ticks))
+	}
+	return fmt.Sprintf("Schedule %+v", p), got, fmt.Sprintf("%+v", m.schedule(p))
+}
+
+// TestP9CallsAgainstThePlainWords runs calls of all kinds (P4 to P6, P8) with all four settings, in an order that is mixed but the same each time.
+func TestP9CallsAgainstThePlainWords(t *testing.T) {
+	for seed := range uint64(18) {
+		x := mix{rand.New(rand.NewPCG(seed, 1)), 6, 60, 5}
+		if seed%3 == 2 {
+			x.nodes, x.pods, x.most = 36, 400, api.MaxAmount/20
+		}
+		length := 1 + x.IntN(12) + int(seed%3)*40
+		var all []*Berth
+		for _, c := range settings(length) {
+			all = append(all, madeBy(t, c))
+		}
+		var kinds []api.Pod
+		for range 10 {
+			kinds = append(kinds, x.pod())
+		}
+		m := &plain{hold: length}
+		for i := range 800 {
+			what, got, want := x.call(all, m, kinds)
+			state := m.state()
+			for j, b := range all {
+				if got[j] != want || !sameState(b.State(), state) {
+					t.Fatalf("seed %d, call %d, setting %d: %s:\n%s\nwant:\n%s\nstate:\n%+v\nwant:\n%+v", seed, i, j, what, got[j], want, b.State(), state)
+				}
+			}
+			if name := m.overfull(all[0].State()); name != "" {
+				t.Fatalf("seed %d, call %d: %s: the node %s is overfull: %+v", seed, i, what, name, state)
+			}
+		}
+	}
 }

@@ -29,11 +29,8 @@ func (b *Berth) Bind(p api.Pod, node string) api.Errno {
 	if !b.hasNode(node) {
 		return api.ErrNone
 	}
-	if _, there := b.pods[p.Name]; there {
-		return api.ErrTwice
-	}
-	if len(b.pods) >= api.MaxPods {
-		return api.ErrFull
+	if e := b.admits(p.Name); e != api.OK {
+		return e
 	}
 	b.lay(p, node, bound, 0)
 	return api.OK
@@ -57,7 +54,7 @@ func (b *Berth) Drop(name string) api.Errno {
 	if _, there := b.pods[name]; !there {
 		return api.ErrNone
 	}
-	delete(b.pods, name)
+	b.lift(name)
 	return api.OK
 }
 
@@ -69,8 +66,19 @@ func (b *Berth) Tick(n int) api.Errno {
 	b.time += n
 	for name, p := range b.pods {
 		if p.state == held && b.time-p.since >= b.hold {
-			delete(b.pods, name)
+			b.lift(name)
 		}
+	}
+	return api.OK
+}
+
+// admits tells whether one more pod, of this name, may be there.
+func (b *Berth) admits(name string) api.Errno {
+	if _, there := b.pods[name]; there {
+		return api.ErrTwice
+	}
+	if len(b.pods) >= api.MaxPods {
+		return api.ErrFull
 	}
 	return api.OK
 }
@@ -85,4 +93,12 @@ func (b *Berth) lay(p api.Pod, node string, state podState, since int) {
 		state:  state,
 		since:  since,
 	}
+	b.changed(node)
+}
+
+// lift takes away a pod that is there.
+func (b *Berth) lift(name string) {
+	node := b.pods[name].node
+	delete(b.pods, name)
+	b.changed(node)
 }
