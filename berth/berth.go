@@ -11,6 +11,7 @@ type Berth struct {
 	nodes           map[string]node
 	pods            map[string]*pod
 	memory          memory
+	waiting         chan api.Pod
 }
 
 // New makes a Berth (P3).
@@ -25,11 +26,6 @@ func New(c api.Config) (*Berth, api.Errno) {
 		nodes:    map[string]node{},
 		pods:     map[string]*pod{},
 		memory:   newMemory(),
+		waiting:  make(chan api.Pod, api.MaxPods),
 	}, api.OK
 }
-
-// Queue lets a pod wait (P7).
-func (b *Berth) Queue(p api.Pod) api.Errno { return api.OK }
-
-// Drain schedules what waits (P7).
-func (b *Berth) Drain(n int) []api.Reply { return nil }

@@ -11,7 +11,7 @@ import (
 	"berth/api"
 )
 
-// filled is a Berth with all the nodes and pods that may be there, some of the pods held; it remembers what it was asked for, and has changed since.
+// filled is a Berth with all the nodes and pods that may be there, some of the pods held, and all that may wait; it remembers what it was asked for, and has changed since.
 func filled(t *testing.T) *Berth {
 	b := madeBy(t, api.Config{Hold: 5, Remember: true})
 	for i := range api.MaxNodes {
@@ -29,6 +29,8 @@ func filled(t *testing.T) *Berth {
 		} else {
 			b.Bind(p, fmt.Sprint("n", i%5))
 		}
+		p.Name, p.Near = fmt.Sprint("w", i%100), labels("rank", fmt.Sprint(i))
+		b.Queue(p)
 	}
 	return b
 }
@@ -50,25 +52,28 @@ func TestP1AnErrorChangesNothing(t *testing.T) {
 		call func() api.Errno
 		want api.Errno
 	}{
-		"PutNode of no node":        {func() api.Errno { return b.PutNode(api.Node{Name: "n1", Labels: keys(9)}) }, api.ErrNode},
-		"PutNode of a wrong name":   {func() api.Errno { return b.PutNode(api.Node{Name: "N1"}) }, api.ErrNode},
-		"PutNode of one more":       {func() api.Errno { return b.PutNode(api.Node{Name: "more"}) }, api.ErrFull},
-		"DropNode of none":          {func() api.Errno { return b.DropNode("more") }, api.ErrNone},
-		"DropNode of a pod":         {func() api.Errno { return b.DropNode("p1") }, api.ErrNone},
-		"Bind of no pod":            {func() api.Errno { return b.Bind(api.Pod{Name: "p1", Port: 65536}, "n1") }, api.ErrPod},
-		"Bind to no node":           {func() api.Errno { return b.Bind(api.Pod{Name: "more"}, "more") }, api.ErrNone},
-		"Bind of one that is bound": {func() api.Errno { return b.Bind(api.Pod{Name: "p1"}, "n9") }, api.ErrTwice},
-		"Bind of one that is held":  {func() api.Errno { return b.Bind(api.Pod{Name: "p4"}, "n9") }, api.ErrTwice},
-		"Bind of one more":          {func() api.Errno { return b.Bind(api.Pod{Name: "more"}, "n1") }, api.ErrFull},
-		"Schedule of no pod":        {refused(b, api.Pod{Name: "p1", Near: keys(9)}), api.ErrPod},
-		"Schedule of one bound":     {refused(b, api.Pod{Name: "p1"}), api.ErrTwice},
-		"Schedule of one held":      {refused(b, api.Pod{Name: "p4"}), api.ErrTwice},
-		"Schedule of one more":      {refused(b, api.Pod{Name: "more"}), api.ErrFull},
-		"Confirm of none":           {func() api.Errno { return b.Confirm("more") }, api.ErrNone},
-		"Confirm of one bound":      {func() api.Errno { return b.Confirm("p1") }, api.ErrState},
-		"Drop of none":              {func() api.Errno { return b.Drop("n1") }, api.ErrNone},
-		"Tick back":                 {func() api.Errno { return b.Tick(-6) }, api.ErrTime},
-		"Tick too far":              {func() api.Errno { return b.Tick(api.MaxTick + 1) }, api.ErrTime},
+		"PutNode of no node":         {func() api.Errno { return b.PutNode(api.Node{Name: "n1", Labels: keys(9)}) }, api.ErrNode},
+		"PutNode of a wrong name":    {func() api.Errno { return b.PutNode(api.Node{Name: "N1"}) }, api.ErrNode},
+		"PutNode of one more":        {func() api.Errno { return b.PutNode(api.Node{Name: "more"}) }, api.ErrFull},
+		"DropNode of none":           {func() api.Errno { return b.DropNode("more") }, api.ErrNone},
+		"DropNode of a pod":          {func() api.Errno { return b.DropNode("p1") }, api.ErrNone},
+		"Bind of no pod":             {func() api.Errno { return b.Bind(api.Pod{Name: "p1", Port: 65536}, "n1") }, api.ErrPod},
+		"Bind to no node":            {func() api.Errno { return b.Bind(api.Pod{Name: "more"}, "more") }, api.ErrNone},
+		"Bind of one that is bound":  {func() api.Errno { return b.Bind(api.Pod{Name: "p1"}, "n9") }, api.ErrTwice},
+		"Bind of one that is held":   {func() api.Errno { return b.Bind(api.Pod{Name: "p4"}, "n9") }, api.ErrTwice},
+		"Bind of one more":           {func() api.Errno { return b.Bind(api.Pod{Name: "more"}, "n1") }, api.ErrFull},
+		"Schedule of no pod":         {refused(b, api.Pod{Name: "p1", Near: keys(9)}), api.ErrPod},
+		"Schedule of one bound":      {refused(b, api.Pod{Name: "p1"}), api.ErrTwice},
+		"Schedule of one held":       {refused(b, api.Pod{Name: "p4"}), api.ErrTwice},
+		"Schedule of one more":       {refused(b, api.Pod{Name: "more"}), api.ErrFull},
+		"Confirm of none":            {func() api.Errno { return b.Confirm("more") }, api.ErrNone},
+		"Confirm of one bound":       {func() api.Errno { return b.Confirm("p1") }, api.ErrState},
+		"Drop of none":               {func() api.Errno { return b.Drop("n1") }, api.ErrNone},
+		"Queue of no pod":            {func() api.Errno { return b.Queue(api.Pod{Name: "p1", Bears: keys(9)}) }, api.ErrPod},
+		"Queue of one more":          {func() api.Errno { return b.Queue(api.Pod{Name: "more"}) }, api.ErrFull},
+		"Queue of one that is there": {func() api.Errno { return b.Queue(api.Pod{Name: "p1"}) }, api.ErrFull},
+		"Tick back":                  {func() api.Errno { return b.Tick(-6) }, api.ErrTime},
+		"Tick too far":               {func() api.Errno { return b.Tick(api.MaxTick + 1) }, api.ErrTime},
 	} {
 		want(t, what, c.call(), c.want)
 		wantSame(t, what, b, filled(t))
@@ -96,6 +101,9 @@ func TestP1NoCallPanics(t *testing.T) {
 				b.Confirm(s)
 				b.Drop(s)
 				b.Schedule(p)
+				b.Queue(p)
+				b.Queue(api.Pod{Name: "a", Need: api.Amounts{1, 0, 0}})
+				b.Drain(n)
 				b.Tick(n)
 				b.State()
 				b.Drop(s)
@@ -106,10 +114,18 @@ func TestP1NoCallPanics(t *testing.T) {
 }
 
 func TestP1TheSameCallsTheSameAnswers(t *testing.T) {
-	first := filled(t).State()
+	first := filled(t)
+	state := first.State()
+	first.Tick(5)
+	replies := first.Drain(9)
 	for range 20 {
-		if s := filled(t).State(); !reflect.DeepEqual(s, first) {
-			t.Fatalf("%+v, and then %+v", first, s)
+		b := filled(t)
+		if s := b.State(); !reflect.DeepEqual(s, state) {
+			t.Fatalf("%+v, and then %+v", state, s)
+		}
+		b.Tick(5)
+		if r := b.Drain(9); !reflect.DeepEqual(r, replies) {
+			t.Fatalf("%+v, and then %+v", replies, r)
 		}
 	}
 }
@@ -137,6 +153,10 @@ func TestP1ListsThatAreHandedInStayAsTheyAre(t *testing.T) {
 		b.Drop("p")
 		b.Schedule(api.Pod{Name: "q", Labels: list, Select: list, Bears: list})
 		b.Drop("q")
+		b.Queue(p)
+		b.Queue(api.Pod{Name: "q", Labels: list, Select: list, Bears: list})
+		b.Drain(2)
+		b.Drop("q")
 		if !slices.Equal(all, before) {
 			t.Errorf("%v became %v", before, all)
 		}
@@ -158,6 +178,7 @@ func TestP1ListsThatAreHandedInAreNotKept(t *testing.T) {
 		wantReply(t, at, api.Pod{Name: "q", Labels: list(), Select: list(), Bears: list(), Near: list(), Apart: labels("a", "2")}, unfit(1, "n6"))
 		at.Drop("p")
 		wantReply(t, at, api.Pod{Name: "q", Labels: list(), Select: list(), Bears: list(), Apart: list()}, api.Reply{Node: "n", Fresh: 1})
+		queue(t, at, api.Pod{Name: "w", Labels: list(), Select: list(), Bears: list(), Near: list(), Apart: list()})
 		for _, l := range mine {
 			for j := range l {
 				if i == 0 {
@@ -184,7 +205,12 @@ func TestP1NilIsAsGoodAsEmpty(t *testing.T) {
 	want(t, "Bind", other.Bind(api.Pod{Name: "p", Labels: e, Select: e, Bears: e, Near: e, Apart: e}, "n"), api.OK)
 	wantReply(t, b, api.Pod{Name: "q"}, api.Reply{Node: "n", Fresh: 1})
 	wantReply(t, other, api.Pod{Name: "q", Labels: e, Select: e, Bears: e, Near: e, Apart: e}, api.Reply{Node: "n", Fresh: 1})
+	queue(t, b, api.Pod{Name: "w"})
+	queue(t, other, api.Pod{Name: "w", Labels: e, Select: e, Bears: e, Near: e, Apart: e})
 	wantSame(t, "nil and empty lists", b, other)
+	wantReplies(t, "Drain", b.Drain(1), []api.Reply{{Node: "n", Fresh: 1}})
+	wantReplies(t, "Drain", other.Drain(1), []api.Reply{{Node: "n", Fresh: 1}})
+	wantSame(t, "nil and empty lists, drained", b, other)
 }
 
 func TestP1ListsThatComeOutAreNew(t *testing.T) {

@@ -67,9 +67,26 @@ func sameState(a, b api.State) bool {
 // wantSame holds all that two Berths keep against each other, not only what State tells.
 func wantSame(t *testing.T, what string, got, want *Berth) {
 	t.Helper()
-	if !reflect.DeepEqual(got, want) {
-		t.Errorf("%s: kept:\n%+v\nwant:\n%+v", what, got, want)
+	one, other := *got, *want
+	one.waiting, other.waiting = nil, nil // two channels are never the same: what lies in them may be
+	if !reflect.DeepEqual(one, other) {
+		t.Errorf("%s: kept:\n%+v\nwant:\n%+v", what, one, other)
 	}
+	if l, m := waits(got), waits(want); !reflect.DeepEqual(l, m) {
+		t.Errorf("%s: there wait:\n%+v\nwant:\n%+v", what, l, m)
+	}
+}
+
+// waits is what waits, in its order; it goes on waiting.
+func waits(b *Berth) []api.Pod {
+	var out []api.Pod
+	for range len(b.waiting) {
+		out = append(out, <-b.waiting)
+	}
+	for _, p := range out {
+		b.waiting <- p
+	}
+	return out
 }
 
 // hold lays a pod as one that is scheduled now.
@@ -95,5 +112,28 @@ func wantReply(t *testing.T, b *Berth, p api.Pod, want api.Reply) {
 	t.Helper()
 	if got := b.Schedule(p); !sameReply(got, want) {
 		t.Errorf("Schedule of %+v:\n%+v\nwant:\n%+v", p, got, want)
+	}
+}
+
+// wantReplies holds replies against each other; nil is as good as an empty list.
+func wantReplies(t *testing.T, what string, got, want []api.Reply) {
+	t.Helper()
+	if !slices.EqualFunc(got, want, sameReply) {
+		t.Errorf("%s:\n%+v\nwant:\n%+v", what, got, want)
+	}
+}
+
+// queue lets pods wait that are all taken.
+func queue(t *testing.T, b *Berth, pods ...api.Pod) {
+	t.Helper()
+	for _, p := range pods {
+		want(t, "Queue of "+p.Name, b.Queue(p), api.OK)
+	}
+}
+
+func wantWaiting(t *testing.T, what string, b *Berth, n int) {
+	t.Helper()
+	if got := b.State().Waiting; got != n {
+		t.Errorf("%s: %d wait, want %d", what, got, n)
 	}
 }

@@ -2,6 +2,7 @@ package berth
 
 import (
 	"fmt"
+	"math"
 	"math/rand/v2"
 	"slices"
 	"strings"
@@ -10,12 +11,13 @@ import (
 	"berth/api"
 )
 
-// plain is the document's words on P4 to P6 and P8 over two plain lists, with nothing remembered; Berths are held against it call by call.
+// plain is the document's words on P4 to P8 over plain lists, with nothing remembered; Berths are held against it call by call.
 type plain struct {
 	hold, time int
 	puts       int
 	nodes      []plainNode
 	pods       []plainPod
+	waiting    []api.Pod
 }
 
 type plainNode struct {
@@ -38,7 +40,7 @@ func (m *plain) pod(name string) int {
 	return slices.IndexFunc(m.pods, func(p plainPod) bool { return p.Name == name })
 }
 
-func (m *plain) putNode(n api.Node) api.Errno {
+func (m *plain) PutNode(n api.Node) api.Errno {
 	i := m.node(n.Name)
 	switch {
 	case CheckNode(n) != api.OK:
@@ -55,7 +57,7 @@ func (m *plain) putNode(n api.Node) api.Errno {
 	return api.OK
 }
 
-func (m *plain) dropNode(name string) api.Errno {
+func (m *plain) DropNode(name string) api.Errno {
 	i := m.node(name)
 	if i < 0 {
 		return api.ErrNone
@@ -65,7 +67,7 @@ func (m *plain) dropNode(name string) api.Errno {
 	return api.OK
 }
 
-func (m *plain) bind(p api.Pod, node string) api.Errno {
+func (m *plain) Bind(p api.Pod, node string) api.Errno {
 	switch {
 	case Check(p) != api.OK:
 		return api.ErrPod
@@ -81,7 +83,7 @@ func (m *plain) bind(p api.Pod, node string) api.Errno {
 	return api.OK
 }
 
-func (m *plain) schedule(p api.Pod) api.Reply {
+func (m *plain) Schedule(p api.Pod) api.Reply {
 	switch {
 	case Check(p) != api.OK:
 		return api.Reply{Err: api.ErrPod}
@@ -194,7 +196,7 @@ func plainNeighbours(n, m api.Node) bool {
 	return n.Name == m.Name
 }
 
-func (m *plain) confirm(name string) api.Errno {
+func (m *plain) Confirm(name string) api.Errno {
 	i := m.pod(name)
 	switch {
 	case i < 0:
@@ -206,7 +208,7 @@ func (m *plain) confirm(name string) api.Errno {
 	return api.OK
 }
 
-func (m *plain) drop(name string) api.Errno {
+func (m *plain) Drop(name string) api.Errno {
 	i := m.pod(name)
 	if i < 0 {
 		return api.ErrNone
@@ -217,7 +219,7 @@ func (m *plain) drop(name string) api.Errno {
 }
 
 // tick takes the ticks one by one, and drops what is held when its time has come (P9).
-func (m *plain) tick(n int) api.Errno {
+func (m *plain) Tick(n int) api.Errno {
 	if n < 0 || n > 100000 {
 		return api.ErrTime
 	}
@@ -225,7 +227,7 @@ func (m *plain) tick(n int) api.Errno {
 		m.time++
 		for _, p := range slices.Clone(m.pods) {
 			if !p.lies.Bound && p.lies.Since+m.hold == m.time {
-				m.drop(p.Name)
+				m.Drop(p.Name)
 			}
 		}
 	}
@@ -233,8 +235,29 @@ func (m *plain) tick(n int) api.Errno {
 	return api.OK
 }
 
-func (m *plain) state() api.State {
-	s := api.State{Time: m.time}
+func (m *plain) Queue(p api.Pod) api.Errno {
+	switch {
+	case Check(p) != api.OK:
+		return api.ErrPod
+	case len(m.waiting) == 128:
+		return api.ErrFull
+	}
+	m.waiting = append(m.waiting, p)
+	return api.OK
+}
+
+func (m *plain) Drain(n int) []api.Reply {
+	var out []api.Reply
+	for n > 0 && len(m.waiting) > 0 {
+		out = append(out, m.Schedule(m.waiting[0]))
+		m.waiting = m.waiting[1:]
+		n--
+	}
+	return out
+}
+
+func (m *plain) State() api.State {
+	s := api.State{Time: m.time, Waiting: len(m.waiting)}
 	for _, n := range m.nodes {
 		used := api.Amounts{m.used(n.Name, 0), m.used(n.Name, 1), m.used(n.Name, 2)}
 		s.Nodes = append(s.Nodes, api.Use{Name: n.Name, Used: used, Pods: len(m.on(n.Name))})
@@ -272,6 +295,7 @@ func (m *plain) overfull(s api.State) string {
 type mix struct {
 	*rand.Rand
 	nodes, pods, most int
+	queues            int // of 100 calls so many are of Queue
 }
 
 func (x mix) list(none int, choices ...string) []api.Label {
@@ -318,9 +342,23 @@ func (x mix) pod() api.Pod {
 	return p
 }
 
-// call makes one call of each Berth and of the plain words: what came of it, as texts.
-func (x mix) call(all []*Berth, m *plain, kinds []api.Pod) (what string, got []string, want string) {
-	n, p, k, ticks := x.node(), x.pod(), x.IntN(100), x.IntN(4)
+// calls are those that a Berth and the plain words both have.
+type calls interface {
+	PutNode(n api.Node) api.Errno
+	DropNode(name string) api.Errno
+	Bind(p api.Pod, node string) api.Errno
+	Schedule(p api.Pod) api.Reply
+	Confirm(name string) api.Errno
+	Drop(name string) api.Errno
+	Tick(n int) api.Errno
+	Queue(p api.Pod) api.Errno
+	Drain(n int) []api.Reply
+	State() api.State
+}
+
+// call draws one call: what it is, and the making of it, with what came of it as a text.
+func (x mix) call(kinds []api.Pod) (what string, of func(calls) string) {
+	n, p, k, ticks, first := x.node(), x.pod(), x.IntN(100), x.IntN(4), x.IntN(8)-1
 	if x.IntN(3) > 0 {
 		kind := kinds[x.IntN(len(kinds))]
 		kind.Name = p.Name
@@ -328,48 +366,36 @@ func (x mix) call(all []*Berth, m *plain, kinds []api.Pod) (what string, got []s
 	}
 	if x.IntN(40) == 0 {
 		ticks = []int{-1, 0, 100000, 100001}[ticks]
-	}
-	one := func(b *Berth) string {
-		switch {
-		case k < 12:
-			return fmt.Sprint(b.PutNode(n))
-		case k < 13:
-			return fmt.Sprint(b.DropNode(n.Name))
-		case k < 23:
-			return fmt.Sprint(b.Bind(p, n.Name))
-		case k < 33:
-			return fmt.Sprint(b.Drop(p.Name))
-		case k < 43:
-			return fmt.Sprint(b.Confirm(p.Name))
-		case k < 48:
-			return fmt.Sprint(b.Tick(ticks))
-		}
-		return fmt.Sprintf("%+v", b.Schedule(p))
-	}
-	for _, b := range all {
-		got = append(got, one(b))
+		first = math.MaxInt
 	}
 	switch {
 	case k < 12:
-		return fmt.Sprintf("PutNode %+v", n), got, fmt.Sprint(m.putNode(n))
+		return fmt.Sprintf("PutNode %+v", n), func(b calls) string { return fmt.Sprint(b.PutNode(n)) }
 	case k < 13:
-		return "DropNode " + n.Name, got, fmt.Sprint(m.dropNode(n.Name))
+		return "DropNode " + n.Name, func(b calls) string { return fmt.Sprint(b.DropNode(n.Name)) }
 	case k < 23:
-		return fmt.Sprintf("Bind %+v to %s", p, n.Name), got, fmt.Sprint(m.bind(p, n.Name))
+		return fmt.Sprintf("Bind %+v to %s", p, n.Name), func(b calls) string { return fmt.Sprint(b.Bind(p, n.Name)) }
 	case k < 33:
-		return "Drop " + p.Name, got, fmt.Sprint(m.drop(p.Name))
+		return "Drop " + p.Name, func(b calls) string { return fmt.Sprint(b.Drop(p.Name)) }
 	case k < 43:
-		return "Confirm " + p.Name, got, fmt.Sprint(m.confirm(p.Name))
+		return "Confirm " + p.Name, func(b calls) string { return fmt.Sprint(b.Confirm(p.Name)) }
 	case k < 48:
-		return fmt.Sprint("Tick ", ticks), got, fmt.Sprint(m.tick(ticks))
+		return fmt.Sprint("Tick ", ticks), func(b calls) string { return fmt.Sprint(b.Tick(ticks)) }
+	case k < 52:
+		return fmt.Sprint("Drain ", first), func(b calls) string { return fmt.Sprintf("%+v", b.Drain(first)) }
+	case k < 52+x.queues:
+		return fmt.Sprintf("Queue %+v", p), func(b calls) string { return fmt.Sprint(b.Queue(p)) }
 	}
-	return fmt.Sprintf("Schedule %+v", p), got, fmt.Sprintf("%+v", m.schedule(p))
+	return fmt.Sprintf("Schedule %+v", p), func(b calls) string { return fmt.Sprintf("%+v", b.Schedule(p)) }
 }
 
-// TestP9CallsAgainstThePlainWords runs calls of all kinds (P4 to P6, P8) with all four settings, in an order that is mixed but the same each time.
+// TestP9CallsAgainstThePlainWords runs calls of all kinds (P4 to P8) with all four settings, in an order that is mixed but the same each time.
 func TestP9CallsAgainstThePlainWords(t *testing.T) {
 	for seed := range uint64(18) {
-		x := mix{rand.New(rand.NewPCG(seed, 1)), 6, 60, 5}
+		x := mix{rand.New(rand.NewPCG(seed, 1)), 6, 60, 5, 12}
+		if seed%6 > 3 {
+			x.queues = 30
+		}
 		if seed%3 == 2 {
 			x.nodes, x.pods, x.most = 36, 400, api.MaxAmount/20
 		}
@@ -384,11 +410,11 @@ func TestP9CallsAgainstThePlainWords(t *testing.T) {
 		}
 		m := &plain{hold: length}
 		for i := range 800 {
-			what, got, want := x.call(all, m, kinds)
-			state := m.state()
+			what, of := x.call(kinds)
+			want, state := of(m), m.State()
 			for j, b := range all {
-				if got[j] != want || !sameState(b.State(), state) {
-					t.Fatalf("seed %d, call %d, setting %d: %s:\n%s\nwant:\n%s\nstate:\n%+v\nwant:\n%+v", seed, i, j, what, got[j], want, b.State(), state)
+				if got := of(b); got != want || !sameState(b.State(), state) {
+					t.Fatalf("seed %d, call %d, setting %d: %s:\n%s\nwant:\n%s\nstate:\n%+v\nwant:\n%+v", seed, i, j, what, got, want, b.State(), state)
 				}
 			}
 			if name := m.overfull(all[0].State()); name != "" {

@@ -9,7 +9,7 @@ import (
 
 // State tells what is there (P8).
 func (b *Berth) State() api.State {
-	return api.State{Time: b.time, Nodes: b.uses(), Pods: b.lies()}
+	return api.State{Time: b.time, Nodes: b.uses(), Pods: b.lies(), Waiting: len(b.waiting)}
 }
 
 func (b *Berth) uses() []api.Use {
